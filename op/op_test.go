@@ -44,6 +44,7 @@ func TestOwnIsTheSameOperation(t *testing.T) {
 func TestOwnHasListsOfItsOwn(t *testing.T) {
 	o, was := whole(), whole()
 	one, other := Own(o), Own(o)
+	fill(one.Ask.Addrs, 1234)
 	fill(one.Answer.Addrs, 1234)
 	fill(one.Answer.Errs, 1234)
 	fill(one.Seen, 1234)
@@ -62,5 +63,24 @@ func TestOwnPartsListsThatWereOne(t *testing.T) {
 	fill(got.Answer.Addrs, 1234)
 	if !slices.Equal(got.Ask.Addrs, []uint32{5, 6}) {
 		t.Errorf("%v", got.Ask.Addrs)
+	}
+}
+
+// Elsewhere is held against chapters' words: in the next shard, while there is one, all but
+// these fields stays.
+func TestElsewhere(t *testing.T) {
+	for _, shards := range []int{1, 2, 3, 64} {
+		for sought := range 130 {
+			o := whole()
+			o.Sought = sought
+			want := o
+			want.Sought, want.Word, want.At, want.Phase = sought+1, 0, 0, api.PhSeek
+			if sought >= shards-1 {
+				want.Phase, want.Seen = api.PhFirst, nil
+			}
+			if got := Elsewhere(api.Conf{Shards: shards}, o); !reflect.DeepEqual(got, want) {
+				t.Fatalf("%d shards, %d sought: %+v", shards, sought, got)
+			}
+		}
 	}
 }
